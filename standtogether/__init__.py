@@ -1,0 +1,1 @@
+"""Guests in a row, each party side by side."""
