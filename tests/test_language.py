@@ -121,6 +121,29 @@ class LanguageTest(unittest.TestCase):
                 if isinstance(node, ast.Name):
                     self.assertNotIn(node.id, barred, (name, node.lineno))
 
+    def test_no_local_is_called_like_a_class_or_an_import_of_its_file(self):
+        for name, _, tree in self.each_file():
+            taken = {alias.name for node in tree.body if isinstance(node, ast.ImportFrom) for alias in node.names}
+            taken |= {node.name for node in tree.body if isinstance(node, ast.ClassDef)}
+            for node in ast.walk(tree):
+                bound = node.arg if isinstance(node, ast.arg) else node.id if isinstance(node, ast.Name) else None
+                if isinstance(node, ast.arg) or isinstance(getattr(node, "ctx", None), ast.Store):
+                    self.assertNotIn(bound, taken, (name, node.lineno))
+
+    def test_what_is_walked_is_walked_at_once(self):
+        walked = ("zip", "enumerate", "reversed", "range")
+        takers = ("list", "tuple", "dict", "sorted", "sum", "any", "all", "enumerate", "zip", "min", "max")
+        for name, _, tree in self.each_file():
+            good = []
+            for node in ast.walk(tree):
+                if isinstance(node, (ast.For, ast.comprehension)):
+                    good.append(node.iter)
+                elif isinstance(node, ast.Call) and isinstance(node.func, ast.Name) and node.func.id in takers:
+                    good.extend(node.args if node.func.id == "zip" else node.args[:1])
+            for node in ast.walk(tree):
+                if isinstance(node, ast.Call) and isinstance(node.func, ast.Name) and node.func.id in walked:
+                    self.assertIn(node, good, (name, node.lineno))
+
     def test_methods(self):
         allowed = set(METHODS) | own_methods()
         for name, _, tree in self.each_file():

@@ -4,13 +4,7 @@ import unittest
 
 from standtogether.errors import NoGuests, NoParties
 from standtogether.parties import first_broken, is_parties, is_party, is_seating, sits
-from support import BIG, NO_GUEST_NUMBERS, ODD_THINGS, all_seatings, assert_refused
-
-NO_PARTIES_OF_FOUR = [
-    None, True, "", "none", 0, {}, (), ((0, 1),), [()], [(0, 1), ()], [(1, 0)], [(0, 0)], [(0, 4)], [(-1, 0)],
-    [[0, 1]], [(0, True)], [(False, 1)], [None], [0], [(0,)] * 9, [(0, 1), None], [(0, 1), [2, 3]], {(0,): 0},
-    [(0, (1,))], [("0",)], [{}], [[]],
-]
+from support import BIG, NO_GUEST_NUMBERS, NO_PARTIES_OF_FOUR, ODD_THINGS, all_seatings, assert_refused
 
 
 class GuestsTest(unittest.TestCase):

@@ -5,18 +5,9 @@ import unittest
 from standtogether.errors import NoGuests, NoNumber
 from standtogether.trees import has_row, is_tree, least_form, number_of, row_at, rows_many, rows_of
 from support import (
-    BIG, NO_GUEST_NUMBERS, ODD_THINGS, all_seatings, arrangements, assert_refused, is_row_by_words, least_trees,
-    nested,
+    BIG, LARGE_TREES, NO_GUEST_NUMBERS, ODD_THINGS, all_seatings, arrangements, assert_refused, is_row_by_words,
+    least_trees, nested,
 )
-
-LARGE_TREES = [
-    (6, ("row", (2, ("any", (5, 0)), ("row", (4, 1, 3))))),
-    (6, ("any", (("row", (3, 1, 0)), ("any", (5, 4, 2))))),
-    (7, ("any", (("any", (0, 6)), ("row", (1, 5, ("any", (4, 2)))), 3))),
-    (7, ("row", (6, 5, 4, 3, 2, 1, 0))),
-    (7, ("any", (6, ("any", (5, ("any", (4, ("any", (3, ("any", (2, ("any", (1, 0))))))))))))),
-    (7, ("any", (3, 1, 4, 0, 5, 2, 6))),
-]
 
 
 def shared_deep(word, wide, depth):

@@ -1,0 +1,396 @@
+import copy
+import itertools
+import time
+import unittest
+
+from standtogether.bars import answer, is_bar, least_bar
+from standtogether.errors import NoGuests, NoParties
+from standtogether.whole import tree_of
+from support import (
+    BIG, NO_GUEST_NUMBERS, NO_PARTIES_OF_FOUR, ODD_THINGS, Picker, all_parties, assert_refused, nested, seatings_of,
+    trees_by_rows,
+)
+
+TRIANGLE = [(0, 1), (0, 2), (1, 2)]
+TRIANGLE_BAR = (0, 1, 2, ((0, 0, 1), (0, 1, 2), (1, 2, 2)))
+STAR = [(0, 1), (0, 2), (0, 3)]
+STAR_BAR = (1, 2, 3, ((1, 0, 0, 1, 2), (1, 0, 0, 2, 3), (2, 1, 0, 2, 3)))
+
+
+def is_whole(thing):
+    return type(thing) is int
+
+
+def is_way_by_words(n, parties, way, one, other, third):
+    """Point 51 word by word: guests and parties by turns, walked from the front."""
+    if type(way) is not tuple or len(way) < 3 or len(way) % 2 == 0:
+        return False
+    for place, part in enumerate(way):
+        if not is_whole(part) or part not in range(len(parties) if place % 2 else n):
+            return False
+    for place in range(1, len(way), 2):
+        party = parties[way[place]]
+        if way[place - 1] not in party or way[place + 1] not in party or third in party:
+            return False
+    return way[0] == one and way[-1] == other
+
+
+def is_bar_by_words(n, parties, thing):
+    if type(thing) is not tuple or len(thing) != 4:
+        return False
+    a, b, c, ways = thing
+    if not all(is_whole(part) and part in range(n) for part in (a, b, c)) or not a < b < c:
+        return False
+    return type(ways) is tuple and len(ways) == 3 and all(
+        is_way_by_words(n, parties, way, *leg) for way, leg in zip(ways, [(a, b, c), (a, c, b), (b, c, a)]))
+
+
+def shortest_ways(parties, one, other, third, longest):
+    """All ways of as few parties as can be, each step tried; none where the longest does not get there."""
+    ways = [(one,)]
+    for _ in range(longest):
+        ways = [
+            way + (number, mate) for way in ways for number, party in enumerate(parties)
+            if way[-1] in party and third not in party for mate in party
+        ]
+        found = [way for way in ways if way[-1] == other]
+        if found:
+            return found
+        # A way that comes back to a guest is never one of the shortest.
+        ways = [way for way in ways if len(set(way[::2])) == len(way[::2])]
+    return []
+
+
+def least_bar_by_search(n, parties):
+    bars = []
+    for a, b, c in itertools.combinations(range(n), 3):
+        choices = [shortest_ways(parties, *leg, n) for leg in [(a, b, c), (a, c, b), (b, c, a)]]
+        if all(choices):
+            bars.append((a, b, c, tuple(min(choice) for choice in choices)))
+    return min(bars, key=lambda bar: (sum(len(way) // 2 for way in bar[3]), bar), default=None)
+
+
+def least_bar_by_all_bars(n, parties, longest):
+    """Every bar whose ways have at most so many parties, guests and parties over and over too."""
+    bars = []
+    for a, b, c in itertools.combinations(range(n), 3):
+        choices = []
+        for one, other, third in [(a, b, c), (a, c, b), (b, c, a)]:
+            parts = [
+                part for many in range(1, longest + 1)
+                for part in itertools.product(*[range(n if k % 2 else len(parties)) for k in range(2 * many)])
+            ]
+            choices.append([
+                (one,) + part for part in parts if is_way_by_words(n, parties, (one,) + part, one, other, third)
+            ])
+        bars.extend((a, b, c, ways) for ways in itertools.product(*choices))
+    return min(bars, key=lambda bar: (sum(len(way) // 2 for way in bar[3]), bar), default=None)
+
+
+def many_parties():
+    """Parties of one to five guests: all short lists of few guests, picked ones of more."""
+    for n in range(1, 4):
+        for many in range(5):
+            for parties in itertools.product(all_parties(n), repeat=many):
+                yield n, list(parties)
+    large = [party for party in all_parties(4) if len(party) > 1]
+    for many in range(7):
+        for parties in itertools.combinations(large, many):
+            yield 4, list(parties)
+    for parties in itertools.combinations([party for party in all_parties(5) if len(party) > 1], 3):
+        yield 5, list(parties)
+    picker = Picker(52)
+    for number in range(1500):
+        n = 4 + number % 2
+        yield n, picker.parties(n, 3 + number % 6)
+
+
+def large_parties(seed, many):
+    picker = Picker(seed)
+    return [(6 + number % 2, picker.parties(6 + number % 2, 8)) for number in range(many)]
+
+
+def put_at(thing, path, part):
+    if not path:
+        return part
+    return thing[:path[0]] + (put_at(thing[path[0]], path[1:], part),) + thing[path[0] + 1:]
+
+
+def paths(thing):
+    """The place of the thing itself and of each part of it, however deep."""
+    yield ()
+    if isinstance(thing, tuple):
+        for place, part in enumerate(thing):
+            for path in paths(part):
+                yield (place,) + path
+
+
+def part_at(thing, path):
+    return part_at(thing[path[0]], path[1:]) if path else thing
+
+
+def wrong_parts(part):
+    """What may stand in the place of a part: things near it, and things of another kind."""
+    wrong = ODD_THINGS + [str(part), [part], (part,), {0: part}, nested("tuple", 18), nested("list", 18)]
+    if isinstance(part, tuple):
+        return wrong + [list(part), dict(enumerate(part)), part[:-1], part[1:], part + part[-1:], part[:1] + part,
+                        part[::-1], part + part, part + (None,), part + ((),)]
+    return wrong + list(range(-2, 9)) + [BIG + part]
+
+
+class IsBarTest(unittest.TestCase):
+    def test_bars(self):
+        loop = [(0, 1), (0, 2), (1, 2), (0, 1, 3), (0,), (1, 3)]
+        for n, parties, bar in [
+            (3, TRIANGLE, TRIANGLE_BAR),
+            (4, STAR, STAR_BAR),
+            (7, STAR, STAR_BAR),
+            (4, loop, TRIANGLE_BAR),
+            # A party more than once, a guest more than once, a guest ahead of a party and behind it.
+            (4, loop, (0, 1, 2, ((0, 0, 1, 0, 0, 0, 1), (0, 1, 2), (1, 2, 2)))),
+            (4, loop, (0, 1, 2, ((0, 0, 0, 0, 1), (0, 1, 2), (1, 2, 2)))),
+            (4, loop, (0, 1, 2, ((0, 4, 0, 4, 0, 0, 1), (0, 1, 2), (1, 2, 2)))),
+            (4, loop, (0, 1, 2, ((0, 3, 1), (0, 1, 2), (1, 2, 2)))),
+            (4, loop, (0, 1, 2, ((0, 3, 3, 5, 1), (0, 1, 2), (1, 5, 1, 2, 2)))),
+            (4, loop, (0, 1, 2, ((0, 3, 3, 3, 0, 3, 3, 5, 1), (0, 1, 2, 1, 0, 1, 2), (1, 2, 2, 2, 2)))),
+            (3, [(0, 2), (1, 2), (0, 1), (0, 1)], (0, 1, 2, ((0, 3, 1), (0, 0, 2), (1, 1, 2)))),
+            (7, [(0, 6)] * 5 + [(0, 3), (3, 6), (3, 6)], (0, 3, 6, ((0, 5, 3), (0, 4, 6), (3, 7, 6)))),
+        ]:
+            self.assertIs(is_bar(n, parties, bar), True, bar)
+            self.assertTrue(is_bar_by_words(n, parties, bar), bar)
+            self.assertEqual(seatings_of(n, parties), ())
+
+    def test_long_ways(self):
+        way = (0, 0, 1) + (0, 0, 0, 1) * 500
+        self.assertIs(is_bar(3, TRIANGLE, (0, 1, 2, (way, (0, 1, 2), (1, 2, 2)))), True)
+        self.assertIs(is_bar(3, TRIANGLE, (0, 1, 2, (way + (0, 0), (0, 1, 2), (1, 2, 2)))), False)
+        self.assertIs(is_bar(3, TRIANGLE, (0, 1, 2, (way + (1, 0, 0, 1), (0, 1, 2), (1, 2, 2)))), False)
+
+    def test_what_is_no_bar(self):
+        good = TRIANGLE_BAR[3]
+        parties = TRIANGLE + [(0, 1, 2), (0, 1, 3), (3,)]
+        for thing in [
+            # Guests that do not rise, are alike or beyond.
+            (0, 2, 1, good), (1, 0, 2, good), (2, 1, 0, good), (1, 0, 2, ((1, 0, 0), (1, 2, 2), (0, 1, 2))),
+            (0, 2, 1, ((0, 1, 2), (0, 0, 1), (2, 2, 1))), (0, 0, 1, good), (0, 1, 1, good), (0, 0, 0, good),
+            (1, 1, 2, ((1, 0, 1), (1, 2, 2), (1, 2, 2))), (0, 1, 4, good), (-1, 0, 1, good), (0, 1, 4, (
+                (0, 0, 1), (0, 1, 4), (1, 2, 4))),
+            # Numbers of no party.
+            (0, 1, 2, ((0, 6, 1), (0, 1, 2), (1, 2, 2))), (0, 1, 2, ((0, -1, 1), (0, 1, 2), (1, 2, 2))),
+            (0, 1, 2, ((0, -6, 1), (0, 1, 2), (1, 2, 2))), (0, 1, 2, ((0, 0, 1), (0, 1, 2), (1, -4, 2))),
+            (0, 1, 2, ((0, BIG, 1), (0, 1, 2), (1, 2, 2))),
+            # A party without the guest ahead or behind, or with the third one.
+            (0, 1, 2, ((0, 5, 1), (0, 1, 2), (1, 2, 2))), (0, 1, 2, ((0, 5, 3, 4, 1), (0, 1, 2), (1, 2, 2))),
+            (0, 1, 2, ((0, 4, 3, 5, 1), (0, 1, 2), (1, 2, 2))), (0, 1, 2, ((0, 3, 1), (0, 1, 2), (1, 2, 2))),
+            (0, 1, 2, ((0, 0, 1), (0, 3, 2), (1, 2, 2))), (0, 1, 2, ((0, 0, 1), (0, 1, 2), (1, 3, 2))),
+            (0, 1, 2, ((0, 1, 2, 2, 1), (0, 1, 2), (1, 2, 2))), (0, 1, 2, ((0, 0, 1, 0, 3, 4, 1), good[1], good[2])),
+            (0, 1, 3, ((0, 0, 1), (0, 4, 3), (1, 4, 3))),
+            # Ways that begin or end elsewhere, a guest alone, ways turned, in another order, two or four.
+            (0, 1, 2, ((1, 0, 1), (0, 1, 2), (1, 2, 2))), (0, 1, 2, ((0, 0, 0), (0, 1, 2), (1, 2, 2))),
+            (0, 1, 2, ((3, 4, 1), (0, 1, 2), (1, 2, 2))), (0, 1, 2, ((0, 4, 3), (0, 1, 2), (1, 2, 2))),
+            (0, 1, 2, ((0,), (0, 1, 2), (1, 2, 2))), (0, 1, 2, ((1,), (0, 1, 2), (1, 2, 2))),
+            (0, 1, 2, ((), (0, 1, 2), (1, 2, 2))), (0, 1, 2, ((0, 0), (0, 1, 2), (1, 2, 2))),
+            (0, 1, 2, ((0, 0, 1, 0), (0, 1, 2), (1, 2, 2))), (0, 1, 2, ((0, 0, 1), (0, 1, 2), (1, 2, 2, 2))),
+            (0, 1, 2, ((1, 0, 0), (0, 1, 2), (1, 2, 2))), (0, 1, 2, ((0, 0, 1), (2, 1, 0), (1, 2, 2))),
+            (0, 1, 2, ((0, 0, 1), (0, 1, 2), (2, 2, 1))), (0, 1, 2, (good[1], good[0], good[2])),
+            (0, 1, 2, (good[0], good[2], good[1])), (0, 1, 2, good[::-1]), (0, 1, 2, good[:2]), (0, 1, 2, good[1:]),
+            (0, 1, 2, good + good[2:]), (0, 1, 2, good + ((),)), (0, 1, 2, ()), (0, 1, 2, good[0]),
+            # Lists and dicts in the place of tuples, truths in the place of numbers.
+            [0, 1, 2, good], (0, 1, 2, list(good)), (0, 1, 2, ([0, 0, 1], (0, 1, 2), (1, 2, 2))),
+            (0, 1, 2, {0: good[0], 1: good[1], 2: good[2]}), {0: 0, 1: 1, 2: 2, 3: good},
+            (False, 1, 2, good), (0, True, 2, good), (0, 1, 2, ((False, 0, 1), (0, 1, 2), (1, 2, 2))),
+            (0, 1, 2, ((0, False, 1), (0, 1, 2), (1, 2, 2))), (0, 1, 2, ((0, 0, True), (0, 1, 2), (1, 2, 2))),
+            (0, 1, 2, ((0, 0, 1), (0, True, 2), (1, 2, 2))), (0, 1, 2, ((0, 0, 1), (0, 1, 2), (True, 2, 2))),
+            # A part more or less, and other things.
+            (0, 1, 2), (0, 1, 2, good, ()), (0, 1, 2, good, good), (0, 1, good), (1, 2, good), ((0, 1, 2), good),
+            (0, 1, 2) + good, ("bar", TRIANGLE_BAR), (TRIANGLE_BAR,), good, (None, 1, 2, good), ("0", 1, 2, good),
+            (0, 1, 2, None), (0, 1, 2, "abc"), (0, 1, 2, ("abc", "abc", "abc")), ((0,), 1, 2, good), ([], 1, 2, good),
+            (0, 1, {}, good), (0, 1, 2, ((0, [], 1), (0, 1, 2), (1, 2, 2))), (0, 1, 2, nested("tuple", 19)),
+            (0, 1, 2, (nested("tuple", 18),) * 3), (0, 1, 2, (nested("list", 18),) * 3),
+        ] + ODD_THINGS:
+            self.assertIs(is_bar(4, parties, thing), False, thing)
+            self.assertFalse(is_bar_by_words(4, parties, thing), thing)
+        self.assertIs(is_bar(4, parties, TRIANGLE_BAR), True)
+
+    def test_a_part_changed_anywhere(self):
+        for n, parties, bar in [
+            (3, TRIANGLE, TRIANGLE_BAR), (4, STAR, STAR_BAR), (4, STAR + [(0, 1), (1,), (0, 1, 2)], STAR_BAR),
+        ]:
+            for path in paths(bar):
+                for part in wrong_parts(part_at(bar, path)):
+                    thing = put_at(bar, path, part)
+                    self.assertIs(is_bar(n, parties, thing), is_bar_by_words(n, parties, thing), thing)
+
+    def test_all_short_tuples_as_a_way(self):
+        parties = TRIANGLE + [(0, 1, 3)]
+        for many in range(6):
+            for way in itertools.product(range(-1, 5), repeat=many):
+                for place in range(3):
+                    thing = put_at(TRIANGLE_BAR, (3, place), way)
+                    self.assertIs(is_bar(4, parties, thing), is_bar_by_words(4, parties, thing), thing)
+
+    def test_bars_of_no_parties_and_of_few_guests(self):
+        for n in (1, 2, 3, 7):
+            self.assertIs(is_bar(n, [], TRIANGLE_BAR), False)
+            self.assertIs(is_bar(n, [(0,)], TRIANGLE_BAR), False)
+        self.assertIs(is_bar(2, [(0, 1), (0,), (1,)], TRIANGLE_BAR), False)
+
+    def test_a_bar_shows_that_no_seating_keeps_the_parties(self):
+        picker = Picker(51)
+        shown = {True: 0, False: 0}
+        for number in range(600):
+            n = 3 + number % 5
+            parties = picker.parties(n, 3 + number % 6)
+            bar = least_bar_by_search(n, parties)
+            if bar is None:
+                continue
+            self.assertIs(is_bar(n, parties, bar), True, (parties, bar))
+            self.assertEqual(seatings_of(n, parties), (), (parties, bar))
+            parties[picker.number(len(parties))] = picker.parties(n, 1)[0]
+            told = is_bar(n, parties, bar)
+            self.assertIs(told, is_bar_by_words(n, parties, bar), (parties, bar))
+            if told:
+                self.assertEqual(seatings_of(n, parties), (), (parties, bar))
+            shown[told] += 1
+        self.assertGreater(min(shown.values()), 50)
+
+
+class AnswerTest(unittest.TestCase):
+    def assert_answer(self, n, parties, wanted):
+        """wanted: the tree where there is a seating that keeps the parties, None where there is none."""
+        told = answer(n, parties)
+        self.assertIs(type(told), tuple)
+        if wanted is not None:
+            self.assertEqual(told, ("tree", wanted), (n, parties))
+        else:
+            self.assertEqual(len(told), 2)
+            self.assertEqual(told[0], "bar", (n, parties))
+            self.assertIs(is_bar(n, parties, told[1]), True, (n, parties, told))
+            self.assertTrue(is_bar_by_words(n, parties, told[1]), (n, parties, told))
+
+    def test_by_hand(self):
+        self.assertEqual(answer(1, []), ("tree", 0))
+        self.assertEqual(answer(3, [(0, 1), (1, 2)]), ("tree", ("row", (0, 1, 2))))
+        self.assertEqual(answer(3, TRIANGLE), ("bar", TRIANGLE_BAR))
+
+    def test_many_parties_of_one_to_five_guests(self):
+        kinds = {"tree": 0, "bar": 0}
+        for n, parties in many_parties():
+            left = seatings_of(n, parties)
+            self.assert_answer(n, parties, trees_by_rows(n)[left] if left else None)
+            kinds["tree" if left else "bar"] += 1
+        self.assertGreater(min(kinds.values()), 1000)
+
+    def test_parties_of_six_and_seven(self):
+        for n, parties in large_parties(54, 60):
+            for many in range(9):
+                wanted = tree_of(n, parties[:many])
+                self.assertIs(wanted is not None, seatings_of(n, parties[:many]) != ())
+                self.assert_answer(n, parties[:many], wanted)
+
+
+class LeastBarTest(unittest.TestCase):
+    def test_by_hand(self):
+        self.assertIsNone(least_bar(1, []))
+        self.assertIsNone(least_bar(3, [(0, 1), (1, 2)]))
+        self.assertEqual(least_bar(3, TRIANGLE), TRIANGLE_BAR)
+        self.assertEqual(least_bar(4, STAR), STAR_BAR)
+        # A bar of three parties goes ahead of one of six, though its guests are greater.
+        self.assertEqual(
+            least_bar(7, [(0, 1), (0, 2), (0, 3), (4, 5), (5, 6), (4, 6)]),
+            (4, 5, 6, ((4, 3, 5), (4, 5, 6), (5, 4, 6))))
+        # Of like parties the first one; a party counts as often as it stands.
+        self.assertEqual(
+            least_bar(3, [(0, 1), (0, 1), (0, 2), (0, 2), (1, 2), (1, 2)]),
+            (0, 1, 2, ((0, 0, 1), (0, 2, 2), (1, 4, 2))))
+        # Two ways of as many parties: the least party first, then the least guest.
+        self.assertEqual(
+            least_bar(5, [(0, 3, 4), (1, 3, 4), (0, 2), (1, 2)]),
+            (0, 1, 2, ((0, 0, 3, 1, 1), (0, 2, 2), (1, 3, 2))))
+
+    def test_against_a_search(self):
+        for n, parties in many_parties():
+            self.assertEqual(least_bar(n, parties), least_bar_by_search(n, parties), (n, parties))
+
+    def test_against_all_bars(self):
+        for parties in itertools.combinations_with_replacement([(0, 1), (0, 2), (1, 2), (0, 1, 2), (0,)], 3):
+            for order in sorted(set(itertools.permutations(parties))):
+                self.assertEqual(least_bar(3, list(order)), least_bar_by_all_bars(3, order, 2), order)
+        for parties in [STAR, STAR[::-1], TRIANGLE, [(0, 3), (1, 3), (2, 3)], [(0, 1), (1, 2), (1, 3)], [(0, 1), (2, 3)]]:
+            self.assertEqual(least_bar(4, parties), least_bar_by_all_bars(4, parties, 2), parties)
+
+    def test_none_just_where_there_is_a_tree(self):
+        for n, parties in itertools.chain(many_parties(), large_parties(55, 60)):
+            told = least_bar(n, parties)
+            self.assertIs(told is None, tree_of(n, parties) is not None, (n, parties))
+            if told is not None:
+                self.assertIs(is_bar(n, parties, told), True, (n, parties))
+
+    def test_six_and_seven_guests_against_a_search(self):
+        picker = Picker(53)
+        for number in range(60):
+            n = 6 + number % 2
+            # Two guests a party make long ways, and many of one length.
+            parties = [tuple(sorted(picker.mixed(range(n))[:2 + picker.number(2)])) for _ in range(8 - number % 3)]
+            self.assertEqual(least_bar(n, parties), least_bar_by_search(n, parties), (n, parties))
+
+    def test_six_and_seven_guests_with_eight_parties_in_good_time(self):
+        start = time.monotonic()
+        for n, parties in large_parties(56, 200):
+            least_bar(n, parties)
+            answer(n, parties)
+        least_bar(7, [(0, 1, 2, 3, 4, 5, 6)] * 8)
+        least_bar(7, [(0, 1), (1, 2), (2, 3), (3, 4), (4, 5), (5, 6), (0, 6), (0, 3)])
+        self.assertLess(time.monotonic() - start, 60)
+
+
+class RefusedTest(unittest.TestCase):
+    def test_no_number_of_guests_goes_ahead_of_all_else(self):
+        for n in NO_GUEST_NUMBERS:
+            for thing in [[(0,)], TRIANGLE, TRIANGLE_BAR] + ODD_THINGS + NO_PARTIES_OF_FOUR:
+                with self.subTest(n=n, thing=thing):
+                    assert_refused(self, NoGuests, answer, n, thing)
+                    assert_refused(self, NoGuests, least_bar, n, thing)
+                    assert_refused(self, NoGuests, is_bar, n, thing, TRIANGLE_BAR)
+                    assert_refused(self, NoGuests, is_bar, n, [], thing)
+
+    def test_no_parties_are_refused(self):
+        for thing in NO_PARTIES_OF_FOUR:
+            before = copy.deepcopy(thing)
+            with self.subTest(thing=thing):
+                assert_refused(self, NoParties, answer, 4, thing)
+                assert_refused(self, NoParties, least_bar, 4, thing)
+                for other in [TRIANGLE_BAR] + ODD_THINGS:
+                    assert_refused(self, NoParties, is_bar, 4, thing, other)
+                self.assertEqual(thing, before)
+        for thing in ODD_THINGS:
+            if thing != []:
+                assert_refused(self, NoParties, answer, 7, thing)
+                assert_refused(self, NoParties, least_bar, 7, thing)
+                assert_refused(self, NoParties, is_bar, 7, thing, TRIANGLE_BAR)
+
+
+class NothingChangesTest(unittest.TestCase):
+    def test_what_is_handed_in_is_the_same_afterwards_and_answers_stay(self):
+        for n, parties in [(1, []), (3, TRIANGLE), (4, STAR), (4, [(0, 1), (2, 3)])] + large_parties(57, 20):
+            before = copy.deepcopy(parties)
+            for ask in (answer, least_bar):
+                self.assertEqual(ask(n, parties), ask(n, parties))
+                self.assertEqual(parties, before)
+            for thing in [TRIANGLE_BAR, STAR_BAR, list(STAR_BAR), (0, 1, 2, [[0], {}, ()])] + ODD_THINGS:
+                kept = copy.deepcopy(thing)
+                self.assertIs(is_bar(n, parties, thing), is_bar(n, parties, thing))
+                self.assertEqual((parties, thing), (before, kept))
+
+    def test_nothing_hangs_on_what_is_done_to_the_parties_later(self):
+        parties = list(TRIANGLE)
+        told = answer(3, parties)
+        parties.pop()
+        self.assertEqual(told, ("bar", TRIANGLE_BAR))
+        self.assertEqual(answer(3, parties), ("tree", ("row", (1, 0, 2))))
+        self.assertIsNone(least_bar(3, parties))
+        self.assertIs(is_bar(3, parties, TRIANGLE_BAR), False)
+
+
+if __name__ == "__main__":
+    unittest.main()
