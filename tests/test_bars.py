@@ -1,64 +1,14 @@
-import copy
 import itertools
 import time
 import unittest
 
 from standtogether.bars import answer, is_bar, least_bar
-from standtogether.errors import NoGuests, NoParties
 from standtogether.whole import tree_of
 from support import (
-    BIG, NO_GUEST_NUMBERS, NO_PARTIES_OF_FOUR, ODD_THINGS, Picker, all_parties, assert_refused, nested, seatings_of,
-    trees_by_rows,
+    BIG, ODD_THINGS, STAR, STAR_BAR, TRIANGLE, TRIANGLE_BAR, Picker, assert_answers_stay,
+    assert_guests_and_parties_refused, is_bar_by_words, is_way_by_words, large_parties, many_parties, nested,
+    part_at, paths, put_at, seatings_of, shortest_ways, trees_by_rows, wrong_parts,
 )
-
-TRIANGLE = [(0, 1), (0, 2), (1, 2)]
-TRIANGLE_BAR = (0, 1, 2, ((0, 0, 1), (0, 1, 2), (1, 2, 2)))
-STAR = [(0, 1), (0, 2), (0, 3)]
-STAR_BAR = (1, 2, 3, ((1, 0, 0, 1, 2), (1, 0, 0, 2, 3), (2, 1, 0, 2, 3)))
-
-
-def is_whole(thing):
-    return type(thing) is int
-
-
-def is_way_by_words(n, parties, way, one, other, third):
-    """Point 51 word by word: guests and parties by turns, walked from the front."""
-    if type(way) is not tuple or len(way) < 3 or len(way) % 2 == 0:
-        return False
-    for place, part in enumerate(way):
-        if not is_whole(part) or part not in range(len(parties) if place % 2 else n):
-            return False
-    for place in range(1, len(way), 2):
-        party = parties[way[place]]
-        if way[place - 1] not in party or way[place + 1] not in party or third in party:
-            return False
-    return way[0] == one and way[-1] == other
-
-
-def is_bar_by_words(n, parties, thing):
-    if type(thing) is not tuple or len(thing) != 4:
-        return False
-    a, b, c, ways = thing
-    if not all(is_whole(part) and part in range(n) for part in (a, b, c)) or not a < b < c:
-        return False
-    return type(ways) is tuple and len(ways) == 3 and all(
-        is_way_by_words(n, parties, way, *leg) for way, leg in zip(ways, [(a, b, c), (a, c, b), (b, c, a)]))
-
-
-def shortest_ways(parties, one, other, third, longest):
-    """All ways of as few parties as can be, each step tried; none where the longest does not get there."""
-    ways = [(one,)]
-    for _ in range(longest):
-        ways = [
-            way + (number, mate) for way in ways for number, party in enumerate(parties)
-            if way[-1] in party and third not in party for mate in party
-        ]
-        found = [way for way in ways if way[-1] == other]
-        if found:
-            return found
-        # A way that comes back to a guest is never one of the shortest.
-        ways = [way for way in ways if len(set(way[::2])) == len(way[::2])]
-    return []
 
 
 def least_bar_by_search(n, parties):
@@ -85,57 +35,6 @@ def least_bar_by_all_bars(n, parties, longest):
             ])
         bars.extend((a, b, c, ways) for ways in itertools.product(*choices))
     return min(bars, key=lambda bar: (sum(len(way) // 2 for way in bar[3]), bar), default=None)
-
-
-def many_parties():
-    """Parties of one to five guests: all short lists of few guests, picked ones of more."""
-    for n in range(1, 4):
-        for many in range(5):
-            for parties in itertools.product(all_parties(n), repeat=many):
-                yield n, list(parties)
-    large = [party for party in all_parties(4) if len(party) > 1]
-    for many in range(7):
-        for parties in itertools.combinations(large, many):
-            yield 4, list(parties)
-    for parties in itertools.combinations([party for party in all_parties(5) if len(party) > 1], 3):
-        yield 5, list(parties)
-    picker = Picker(52)
-    for number in range(1500):
-        n = 4 + number % 2
-        yield n, picker.parties(n, 3 + number % 6)
-
-
-def large_parties(seed, many):
-    picker = Picker(seed)
-    return [(6 + number % 2, picker.parties(6 + number % 2, 8)) for number in range(many)]
-
-
-def put_at(thing, path, part):
-    if not path:
-        return part
-    return thing[:path[0]] + (put_at(thing[path[0]], path[1:], part),) + thing[path[0] + 1:]
-
-
-def paths(thing):
-    """The place of the thing itself and of each part of it, however deep."""
-    yield ()
-    if isinstance(thing, tuple):
-        for place, part in enumerate(thing):
-            for path in paths(part):
-                yield (place,) + path
-
-
-def part_at(thing, path):
-    return part_at(thing[path[0]], path[1:]) if path else thing
-
-
-def wrong_parts(part):
-    """What may stand in the place of a part: things near it, and things of another kind."""
-    wrong = ODD_THINGS + [str(part), [part], (part,), {0: part}, nested("tuple", 18), nested("list", 18)]
-    if isinstance(part, tuple):
-        return wrong + [list(part), dict(enumerate(part)), part[:-1], part[1:], part + part[-1:], part[:1] + part,
-                        part[::-1], part + part, part + (None,), part + ((),)]
-    return wrong + list(range(-2, 9)) + [BIG + part]
 
 
 class IsBarTest(unittest.TestCase):
@@ -345,42 +244,17 @@ class LeastBarTest(unittest.TestCase):
 
 
 class RefusedTest(unittest.TestCase):
-    def test_no_number_of_guests_goes_ahead_of_all_else(self):
-        for n in NO_GUEST_NUMBERS:
-            for thing in [[(0,)], TRIANGLE, TRIANGLE_BAR] + ODD_THINGS + NO_PARTIES_OF_FOUR:
-                with self.subTest(n=n, thing=thing):
-                    assert_refused(self, NoGuests, answer, n, thing)
-                    assert_refused(self, NoGuests, least_bar, n, thing)
-                    assert_refused(self, NoGuests, is_bar, n, thing, TRIANGLE_BAR)
-                    assert_refused(self, NoGuests, is_bar, n, [], thing)
-
-    def test_no_parties_are_refused(self):
-        for thing in NO_PARTIES_OF_FOUR:
-            before = copy.deepcopy(thing)
-            with self.subTest(thing=thing):
-                assert_refused(self, NoParties, answer, 4, thing)
-                assert_refused(self, NoParties, least_bar, 4, thing)
-                for other in [TRIANGLE_BAR] + ODD_THINGS:
-                    assert_refused(self, NoParties, is_bar, 4, thing, other)
-                self.assertEqual(thing, before)
-        for thing in ODD_THINGS:
-            if thing != []:
-                assert_refused(self, NoParties, answer, 7, thing)
-                assert_refused(self, NoParties, least_bar, 7, thing)
-                assert_refused(self, NoParties, is_bar, 7, thing, TRIANGLE_BAR)
+    def test_no_guests_and_then_no_parties(self):
+        assert_guests_and_parties_refused(self, (answer, least_bar), (is_bar,))
 
 
 class NothingChangesTest(unittest.TestCase):
     def test_what_is_handed_in_is_the_same_afterwards_and_answers_stay(self):
         for n, parties in [(1, []), (3, TRIANGLE), (4, STAR), (4, [(0, 1), (2, 3)])] + large_parties(57, 20):
-            before = copy.deepcopy(parties)
             for ask in (answer, least_bar):
-                self.assertEqual(ask(n, parties), ask(n, parties))
-                self.assertEqual(parties, before)
+                assert_answers_stay(self, ask, n, parties)
             for thing in [TRIANGLE_BAR, STAR_BAR, list(STAR_BAR), (0, 1, 2, [[0], {}, ()])] + ODD_THINGS:
-                kept = copy.deepcopy(thing)
-                self.assertIs(is_bar(n, parties, thing), is_bar(n, parties, thing))
-                self.assertEqual((parties, thing), (before, kept))
+                assert_answers_stay(self, is_bar, n, parties, thing)
 
     def test_nothing_hangs_on_what_is_done_to_the_parties_later(self):
         parties = list(TRIANGLE)
