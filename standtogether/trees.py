@@ -33,13 +33,17 @@ def is_leaf(tree):
     return not isinstance(tree, tuple)
 
 
-def guests_in(tree):
+def row_as_written(tree):
     if is_leaf(tree):
         return [tree]
     guests = []
     for branch in tree[1]:
-        guests.extend(guests_in(branch))
-    return sorted(guests)
+        guests.extend(row_as_written(branch))
+    return guests
+
+
+def guests_in(tree):
+    return sorted(row_as_written(tree))
 
 
 def count_rows(tree):

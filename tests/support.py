@@ -330,8 +330,9 @@ def many_parties():
 
 
 def some_parties():
-    """Some of these many."""
-    return list(itertools.islice(many_parties(), 0, None, 11))
+    """Some of these many: all of one guest and of two, and few of the others."""
+    short = itertools.takewhile(lambda one: one[0] < 3, many_parties())
+    return list(short) + [(1, [(0,)] * 8)] + list(itertools.islice(many_parties(), 0, None, 11))
 
 
 def large_parties(seed, many):
@@ -364,7 +365,7 @@ def wrong_parts(part):
     if isinstance(part, tuple):
         return wrong + [list(part), dict(enumerate(part)), part[:-1], part[1:], part + part[-1:], part[:1] + part,
                         part[::-1], part + part, part + (None,), part + ((),)]
-    return wrong + list(range(-2, 9)) + [BIG + part]
+    return wrong + list(range(-2, 9)) + ([BIG + part] if isinstance(part, int) else [])
 
 
 def all_shortest_bars(n, parties):

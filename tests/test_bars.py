@@ -215,7 +215,8 @@ class LeastBarTest(unittest.TestCase):
         for parties in itertools.combinations_with_replacement([(0, 1), (0, 2), (1, 2), (0, 1, 2), (0,)], 3):
             for order in sorted(set(itertools.permutations(parties))):
                 self.assertEqual(least_bar(3, list(order)), least_bar_by_all_bars(3, order, 2), order)
-        for parties in [STAR, STAR[::-1], TRIANGLE, [(0, 3), (1, 3), (2, 3)], [(0, 1), (1, 2), (1, 3)], [(0, 1), (2, 3)]]:
+        stars = [STAR, STAR[::-1], [(0, 3), (1, 3), (2, 3)], [(0, 1), (1, 2), (1, 3)]]
+        for parties in stars + [TRIANGLE, [(0, 1), (2, 3)]]:
             self.assertEqual(least_bar(4, parties), least_bar_by_all_bars(4, parties, 2), parties)
 
     def test_none_just_where_there_is_a_tree(self):

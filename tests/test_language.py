@@ -144,6 +144,65 @@ class LanguageTest(unittest.TestCase):
                 if isinstance(node, ast.Call) and isinstance(node.func, ast.Name) and node.func.id in walked:
                     self.assertIn(node, good, (name, node.lineno))
 
+    def test_sets_are_not_kept(self):
+        for name, _, tree in self.each_file():
+            good = []
+            for node in ast.walk(tree):
+                if isinstance(node, ast.Call) and isinstance(node.func, ast.Name) and node.func.id in ("sorted", "len"):
+                    good.extend(node.args if not node.keywords else [])
+                elif isinstance(node, ast.Compare) and isinstance(node.ops[0], (ast.Eq, ast.NotEq, ast.In, ast.NotIn)):
+                    good.extend([node.left] + node.comparators)
+            for node in ast.walk(tree):
+                called = node.func.id if isinstance(node, ast.Call) and isinstance(node.func, ast.Name) else ""
+                if isinstance(node, ast.Set) or called in ("set", "frozenset"):
+                    self.assertIn(node, good, (name, node.lineno))
+
+    def test_texts_and_f_strings(self):
+        for name, _, tree in self.each_file():
+            for node in ast.walk(tree):
+                if isinstance(node, ast.FormattedValue):
+                    self.assertIsInstance(node.value, ast.Name, (name, node.lineno))
+                    self.assertIsNone(node.format_spec, (name, node.lineno))
+                elif isinstance(node, ast.Constant) and isinstance(node.value, str):
+                    self.assertNotIn("%", node.value, (name, node.lineno))
+
+    def test_classes_have_methods_alone(self):
+        for name, _, tree in self.each_file():
+            for node in ast.walk(tree):
+                if isinstance(node, ast.ClassDef):
+                    self.assertIn(node, tree.body, (name, node.name))
+                    self.assertLessEqual(len(node.bases), 1, (name, node.name))
+                    for part in node.body:
+                        self.assertIsInstance(part, (ast.FunctionDef, ast.Pass), (name, node.name))
+
+    def test_keywords_of_pythons_own(self):
+        allowed = {
+            "sorted": ["key", "reverse"], "min": ["key", "default"], "max": ["key", "default"], "sum": ["start"],
+            "enumerate": ["start"], "zip": ["strict"],
+        }
+        for name, _, tree in self.each_file():
+            for node in ast.walk(tree):
+                if isinstance(node, ast.Call) and node.keywords:
+                    called = node.func.id if isinstance(node.func, ast.Name) else None
+                    for keyword in node.keywords:
+                        self.assertIn(keyword.arg, allowed.get(called, []), (name, node.lineno))
+
+    def test_the_top_of_a_file_is_bound_once_and_plain(self):
+        for name, _, tree in self.each_file():
+            bound = []
+            for node in tree.body:
+                if isinstance(node, (ast.FunctionDef, ast.ClassDef)):
+                    bound.append(node.name)
+                elif isinstance(node, ast.ImportFrom):
+                    bound.extend(alias.asname or alias.name for alias in node.names)
+                elif isinstance(node, ast.Assign):
+                    bound.append(node.targets[0].id)
+                    ast.literal_eval(node.value)
+                else:
+                    self.assertIs(node, tree.body[0], (name, node.lineno))
+                    self.assertIsInstance(node.value, ast.Constant, name)
+            self.assertEqual(sorted(set(bound)), sorted(bound), name)
+
     def test_methods(self):
         allowed = set(METHODS) | own_methods()
         for name, _, tree in self.each_file():
